@@ -1,0 +1,1 @@
+"""Road network reliability: reachability, travel times, routes and cuts."""
