@@ -1,1 +1,1 @@
-"""Road network reliability: reachability, travel times, routes and cuts."""
+"""Road network reliability: reachability, travel times, minimum cuts and repairs."""

@@ -1,5 +1,7 @@
 """What an instance holds: places, roads and stores."""
 
+from lastroads.number_sets import is_member
+
 
 class Road:
     def __init__(self, end_a, end_b, time, repair_cost):
@@ -20,8 +22,27 @@ class Instance:
         self.stores = [0] * place_count
 
 
+def usable_numbers(instance):
+    return [number for number in range(len(instance.roads)) if instance.roads[number].blocked == 0]
+
+
+def blocked_numbers(instance):
+    return [number for number in range(len(instance.roads)) if instance.roads[number].blocked == 1]
+
+
+# A set may hold roads that are blocked already: they are left out either way.
+def roads_without(instance, road_set):
+    return [instance.roads[number] for number in usable_numbers(instance) if not is_member(road_set, number)]
+
+
+# The roads keep the order of their numbers, which the ties of a fastest route go by.
 def usable_roads(instance):
-    return [road for road in instance.roads if road.blocked == 0]
+    return roads_without(instance, 0)
+
+
+def roads_with(instance, road_set):
+    repaired = [instance.roads[number] for number in blocked_numbers(instance) if is_member(road_set, number)]
+    return usable_roads(instance) + repaired
 
 
 # None if the road doesn't touch the place.

@@ -3,10 +3,13 @@
 Each one checks for its errors, in the document's order, before it changes anything.
 """
 
+from lastroads.cuts import cut_sizes, smallest_cut
 from lastroads.disjoint import count_disjoint_routes
-from lastroads.instance import Instance, Road, usable_roads
-from lastroads.reach import reached_places
+from lastroads.instance import Instance, Road, roads_with, roads_without, usable_numbers, usable_roads
+from lastroads.number_sets import members, set_of
+from lastroads.outlook import gain, gains, loss, losses, reached_now, reached_without
 from lastroads.refusals import AlreadySo, NotThere, OutOfRange, TooManyRoads, Undefined
+from lastroads.repairs import cheapest_plan, plan_cost
 from lastroads.travel import greatest_time, places_on_fastest_route, times_to_places
 
 MOST_PLACES = 7
@@ -31,8 +34,25 @@ def find_road(instance, number):
     return instance.roads[number]
 
 
-def places_reached_now(instance):
-    return reached_places(instance.stores, usable_roads(instance))
+def find_usable_road(instance, number):
+    road = find_road(instance, number)
+    if road.blocked == 1:
+        raise AlreadySo()
+    return road
+
+
+def find_blocked_road(instance, number):
+    road = find_road(instance, number)
+    if road.blocked == 0:
+        raise AlreadySo()
+    return road
+
+
+# A place with a store has no cut, and no end of routes.
+def check_has_cut(instance, place):
+    check_place(instance, place)
+    if instance.stores[place] == 1:
+        raise Undefined()
 
 
 def times_now(instance):
@@ -46,6 +66,36 @@ def find_time(instance, place):
     if time is None:
         raise Undefined()
     return time
+
+
+# As if there were a store at the place, too; None as greatest_time gives it.
+def greatest_time_with_store(instance, place):
+    stores = list(instance.stores)
+    stores[place] = 1
+    return greatest_time(stores, usable_roads(instance))
+
+
+def find_repair_plan(instance):
+    plan = cheapest_plan(instance)
+    if plan is None:
+        raise Undefined()
+    return plan
+
+
+# The values that there are: a number that isn't to be chosen has None for its value.
+def choices(values):
+    found = [value for value in values if value is not None]
+    if len(found) == 0:
+        raise Undefined()
+    return found
+
+
+def counted(numbers):
+    return [len(numbers)] + numbers
+
+
+def answered_time(time):
+    return -1 if time is None else time
 
 
 # It answers the new instance and no numbers: the caller keeps the instance.
@@ -74,18 +124,14 @@ def remove_road(instance, number):
 
 
 def block_road(instance, number):
-    road = find_road(instance, number)
-    if road.blocked == 1:
-        raise AlreadySo()
-    before = len(places_reached_now(instance))
+    road = find_usable_road(instance, number)
+    lost = loss(instance, number)
     road.blocked = 1
-    return [before - len(places_reached_now(instance))]
+    return [lost]
 
 
 def repair_road(instance, number):
-    road = find_road(instance, number)
-    if road.blocked == 0:
-        raise AlreadySo()
+    road = find_blocked_road(instance, number)
     road.blocked = 0
     return [road.repair_cost]
 
@@ -106,19 +152,16 @@ def list_roads(instance):
 
 
 def reachable_places(instance):
-    reached = places_reached_now(instance)
-    return [len(reached)] + reached
+    return counted(reached_now(instance))
 
 
 def unreachable_places(instance):
-    reached = places_reached_now(instance)
-    missed = [place for place in range(instance.place_count) if place not in reached]
-    return [len(missed)] + missed
+    reached = reached_now(instance)
+    return counted([place for place in range(instance.place_count) if place not in reached])
 
 
 def travel_times(instance):
-    times = [-1 if time is None else time for time in times_now(instance)]
-    return [len(times)] + times
+    return counted([answered_time(time) for time in times_now(instance)])
 
 
 def travel_time(instance, place):
@@ -135,21 +178,98 @@ def greatest_travel_time(instance):
 def fastest_route(instance, place):
     # Asked for its refusals alone: a route is built only for a reachable place.
     find_time(instance, place)
-    places = places_on_fastest_route(instance.stores, usable_roads(instance), place)
-    return [len(places)] + places
+    return counted(places_on_fastest_route(instance.stores, usable_roads(instance), place))
 
 
 def disjoint_route_count(instance, place):
-    check_place(instance, place)
-    if instance.stores[place] == 1:
-        raise Undefined()
+    check_has_cut(instance, place)
     return [count_disjoint_routes(instance.stores, usable_roads(instance), place)]
 
 
-# The number of each call, with how many numbers it has. create is missing among
-# the operations: it alone needs no instance and makes one.
+def minimum_cut(instance, place):
+    check_has_cut(instance, place)
+    return counted(members(smallest_cut(instance, place)))
+
+
+# As in the other choices below, index finds the first, which has the smaller number.
+def weakest_place(instance):
+    sizes = cut_sizes(instance)
+    fewest = min(choices(sizes))
+    return [sizes.index(fewest), fewest]
+
+
+def critical_roads(instance):
+    lost = losses(instance)
+    return counted([number for number in usable_numbers(instance) if lost[number] > 0])
+
+
+def preview_block(instance, number):
+    # Asked for its refusals alone, as in preview_repair below.
+    find_usable_road(instance, number)
+    time = greatest_time(instance.stores, roads_without(instance, 1 << number))
+    return [loss(instance, number), answered_time(time)]
+
+
+def reachable_after_blocking(instance, road_set):
+    check_range(road_set, 0, (1 << len(instance.roads)) - 1)
+    return counted(reached_without(instance, road_set))
+
+
+def most_critical_road(instance):
+    lost = losses(instance)
+    most = max(choices(lost))
+    return [lost.index(most), most]
+
+
+def cheapest_repair_plan(instance):
+    plan = find_repair_plan(instance)
+    return [plan_cost(instance, plan)] + members(plan)
+
+
+def carry_out_repairs(instance):
+    plan = find_repair_plan(instance)
+    for number in members(plan):
+        road = instance.roads[number]
+        road.blocked = 0
+    return [plan_cost(instance, plan)]
+
+
+def preview_repair(instance, number):
+    find_blocked_road(instance, number)
+    time = greatest_time(instance.stores, roads_with(instance, 1 << number))
+    return [gain(instance, number), answered_time(time)]
+
+
+def best_repair(instance):
+    gained = gains(instance)
+    most = max(choices(gained))
+    return [gained.index(most), most]
+
+
+def best_additional_store(instance):
+    times = [greatest_time_with_store(instance, place) for place in range(instance.place_count)]
+    smallest = min(choices(times))
+    return [times.index(smallest), smallest]
+
+
+# A place with a store has no cut, so it survives whatever number of failures.
+def surviving_places(instance, k):
+    sizes = cut_sizes(instance)
+    return counted([place for place in range(len(sizes)) if sizes[place] is None or sizes[place] > k])
+
+
+def summary(instance):
+    with_store = [place for place in range(instance.place_count) if instance.stores[place] == 1]
+    return [instance.place_count, len(instance.roads), len(usable_numbers(instance)), set_of(with_store)]
+
+
+# How many numbers each call has, by its own number.
 CREATE = 0
-PARAMETER_COUNTS = {0: 1, 1: 4, 2: 1, 3: 1, 4: 1, 5: 2, 6: 0, 7: 0, 8: 0, 9: 0, 10: 1, 11: 0, 12: 1, 13: 1}
+PARAMETER_COUNTS = {
+    0: 1, 1: 4, 2: 1, 3: 1, 4: 1, 5: 2, 6: 0, 7: 0, 8: 0, 9: 0, 10: 1, 11: 0, 12: 1, 13: 1,
+    14: 1, 15: 0, 16: 0, 17: 1, 18: 1, 19: 0, 20: 0, 21: 0, 22: 1, 23: 0, 24: 0, 25: 1, 26: 0,
+}
+# create is missing: it alone needs no instance and makes one.
 OPERATIONS = {
     1: add_road,
     2: remove_road,
@@ -164,4 +284,17 @@ OPERATIONS = {
     11: greatest_travel_time,
     12: fastest_route,
     13: disjoint_route_count,
+    14: minimum_cut,
+    15: weakest_place,
+    16: critical_roads,
+    17: preview_block,
+    18: reachable_after_blocking,
+    19: most_critical_road,
+    20: cheapest_repair_plan,
+    21: carry_out_repairs,
+    22: preview_repair,
+    23: best_repair,
+    24: best_additional_store,
+    25: surviving_places,
+    26: summary,
 }

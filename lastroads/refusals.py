@@ -34,7 +34,8 @@ class TooManyRoads(Refusal):
         Refusal.__init__(self, -28)
 
 
-# What is asked for isn't defined: a place isn't reachable or has a store.
+# What is asked for isn't there: a place isn't reachable or has a store, or there is
+# no road, plan or place to choose.
 class Undefined(Refusal):
     def __init__(self):
         Refusal.__init__(self, -33)

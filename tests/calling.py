@@ -17,7 +17,39 @@ NUMBERS = {
     "greatest_travel_time": 11,
     "fastest_route": 12,
     "disjoint_route_count": 13,
+    "minimum_cut": 14,
+    "weakest_place": 15,
+    "critical_roads": 16,
+    "preview_block": 17,
+    "reachable_after_blocking": 18,
+    "most_critical_road": 19,
+    "cheapest_repair_plan": 20,
+    "carry_out_repairs": 21,
+    "preview_repair": 22,
+    "best_repair": 23,
+    "best_additional_store": 24,
+    "surviving_places": 25,
+    "summary": 26,
 }
+
+# How many numbers each call has; a call that is not here has none.
+PARAMETERS = {
+    "create": 1,
+    "add_road": 4,
+    "remove_road": 1,
+    "block_road": 1,
+    "repair_road": 1,
+    "set_store": 2,
+    "travel_time": 1,
+    "fastest_route": 1,
+    "disjoint_route_count": 1,
+    "minimum_cut": 1,
+    "preview_block": 1,
+    "reachable_after_blocking": 1,
+    "preview_repair": 1,
+    "surviving_places": 1,
+}
+NO_PARAMETER = [name for name in NUMBERS if name not in PARAMETERS]
 
 HIGHEST = 4294967295
 
@@ -25,6 +57,8 @@ HIGHEST = 4294967295
 def flat(calls):
     numbers = []
     for call in calls:
+        if len(call) - 1 != PARAMETERS.get(call[0], 0):
+            raise AssertionError(f"not a call of the document: {call}")
         numbers.append(NUMBERS[call[0]])
         numbers.extend(call[1:])
     return numbers

@@ -177,11 +177,11 @@ class Unchanged(unittest.TestCase):
     """An operation that returns an error leaves the instance as it was."""
 
     def check(self, calls, wrong, code):
-        seen = [("list_roads",), ("travel_times",)]
+        seen = [("list_roads",), ("travel_times",), ("summary",)]
         given = ask(*calls, *seen, wrong, *seen)
         with self.subTest(wrong=wrong):
-            self.assertEqual(given[-3], [code])
-            self.assertEqual(given[-2:], given[-5:-3])
+            self.assertEqual(given[-4], [code])
+            self.assertEqual(given[-3:], given[-7:-4])
 
     def test_each_error(self):
         calls = town(4, [0, 2], (0, 1, 2, 3), (1, 3, 4, 5), (2, 3, 6, 7)) + [("block_road", 2)]
@@ -205,6 +205,22 @@ class Unchanged(unittest.TestCase):
         self.check(calls, ("fastest_route", 4), -2)
         self.check(calls, ("disjoint_route_count", 4), -2)
         self.check(calls, ("disjoint_route_count", 2), -33)
+        self.check(calls, ("minimum_cut", 4), -2)
+        self.check(calls, ("minimum_cut", 2), -33)
+        self.check(calls, ("preview_block", 3), -2)
+        self.check(calls, ("preview_block", 2), -17)
+        self.check(calls, ("reachable_after_blocking", 8), -22)
+        self.check(calls, ("reachable_after_blocking", HIGHEST), -22)
+        self.check(calls, ("preview_repair", 3), -2)
+        self.check(calls, ("preview_repair", 0), -17)
+
+    def test_no_place_road_or_plan_to_choose(self):
+        self.check(town(3, [0, 1, 2], (0, 1)), ("weakest_place",), -33)
+        self.check(town(3, [0], (0, 1)) + [("block_road", 0)], ("most_critical_road",), -33)
+        self.check(town(3, [0], (0, 1)) + [("block_road", 0)], ("cheapest_repair_plan",), -33)
+        self.check(town(3, [0], (0, 1)) + [("block_road", 0)], ("carry_out_repairs",), -33)
+        self.check(town(3, [0], (0, 1)), ("best_repair",), -33)
+        self.check(town(4, [0], (0, 1)), ("best_additional_store",), -33)
 
     def test_a_tenth_road(self):
         self.check(town(2, [0], *NINE), ("add_road", 0, 1, 7, 7), -28)
@@ -217,12 +233,15 @@ class Unchanged(unittest.TestCase):
 
     def test_questions_change_nothing(self):
         calls = town(4, [0, 2], (0, 1, 2, 3), (1, 3, 4, 5), (2, 3, 6, 7)) + [("block_road", 2)]
-        seen = [("list_roads",), ("travel_times",)]
+        seen = [("list_roads",), ("travel_times",), ("summary",)]
         asked = [("reachable_places",), ("unreachable_places",), ("travel_time", 3), ("greatest_travel_time",)]
-        asked += [("fastest_route", 3), ("disjoint_route_count", 3)]
-        given = ask(*calls, *seen, *asked, *seen, *asked)
-        start = len(calls)
-        self.assertEqual(given[start:start + 8], given[start + 8:])
+        asked += [("fastest_route", 3), ("disjoint_route_count", 3), ("minimum_cut", 3), ("weakest_place",)]
+        more = [("critical_roads",), ("preview_block", 0), ("reachable_after_blocking", 5), ("most_critical_road",)]
+        more += [("cheapest_repair_plan",), ("preview_repair", 2), ("best_repair",), ("best_additional_store",)]
+        for questions in (asked, more + [("surviving_places", 0)]):
+            given = ask(*calls, *seen, *questions, *seen, *questions)[len(calls):]
+            half = len(given) // 2
+            self.assertEqual(given[:half], given[half:])
 
 
 if __name__ == "__main__":

@@ -1,6 +1,6 @@
 import unittest
 
-from tests.calling import HIGHEST, ask, last, town
+from tests.calling import HIGHEST, NUMBERS, ask, last, town
 
 OTHERS = [
     ("add_road", 0, 1, 1, 1),
@@ -16,6 +16,19 @@ OTHERS = [
     ("greatest_travel_time",),
     ("fastest_route", 0),
     ("disjoint_route_count", 0),
+    ("minimum_cut", 0),
+    ("weakest_place",),
+    ("critical_roads",),
+    ("preview_block", 0),
+    ("reachable_after_blocking", 0),
+    ("most_critical_road",),
+    ("cheapest_repair_plan",),
+    ("carry_out_repairs",),
+    ("preview_repair", 0),
+    ("best_repair",),
+    ("best_additional_store",),
+    ("surviving_places", 0),
+    ("summary",),
 ]
 
 # Each of these has an error of its own to answer once there is an instance.
@@ -28,10 +41,18 @@ WRONG = [
     ("travel_time", HIGHEST),
     ("fastest_route", HIGHEST),
     ("disjoint_route_count", HIGHEST),
+    ("minimum_cut", HIGHEST),
+    ("preview_block", HIGHEST),
+    ("reachable_after_blocking", HIGHEST),
+    ("preview_repair", HIGHEST),
+    ("surviving_places", HIGHEST),
 ]
 
 
 class Create(unittest.TestCase):
+    def test_every_call_is_tried_without_an_instance(self):
+        self.assertEqual({call[0] for call in OTHERS}, set(NUMBERS) - {"create"})
+
     def test_every_number_of_places(self):
         for count in range(1, 8):
             self.assertEqual(ask(("create", count), ("travel_times",)), [[0], [count] + [-1] * count])
@@ -53,8 +74,8 @@ class Create(unittest.TestCase):
     def test_no_instance_ahead_of_a_create_that_succeeds(self):
         for call in OTHERS + WRONG:
             with self.subTest(call=call):
-                given = ask(call, ("create", 2), ("list_roads",), ("travel_times",))
-                self.assertEqual(given, [[-11], [0], [0], [2, -1, -1]])
+                given = ask(call, ("create", 2), ("list_roads",), ("travel_times",), ("summary",))
+                self.assertEqual(given, [[-11], [0], [0], [2, -1, -1], [2, 0, 0, 0]])
 
     def test_no_instance_after_a_create_that_fails(self):
         for call in OTHERS + WRONG:
@@ -63,7 +84,8 @@ class Create(unittest.TestCase):
                     self.assertEqual(ask(("create", count), call), [[-22], [-11]])
 
     def test_no_instance_until_a_create_succeeds(self):
-        given = ask(("create", 0), ("travel_times",), ("create", 8), ("travel_times",), ("create", 1), ("travel_times",))
+        asked = ("travel_times",)
+        given = ask(("create", 0), asked, ("create", 8), asked, ("create", 1), asked)
         self.assertEqual(given, [[-22], [-11], [-22], [-11], [0], [1, -1]])
 
     def test_a_create_replaces_the_instance(self):

@@ -144,13 +144,41 @@ class Language(unittest.TestCase):
     def test_names_of_python(self):
         for name, text in sources().items():
             tree = ast.parse(text)
-            bound = {item.name for item in ast.walk(tree) if isinstance(item, (ast.FunctionDef, ast.ClassDef, ast.alias))}
+            named = (ast.FunctionDef, ast.ClassDef, ast.alias)
+            bound = {item.name for item in ast.walk(tree) if isinstance(item, named)}
             bound |= {item.arg for item in ast.walk(tree) if isinstance(item, ast.arg)}
             bound |= {item.name for item in ast.walk(tree) if isinstance(item, ast.ExceptHandler)}
             names = [item for item in ast.walk(tree) if isinstance(item, ast.Name)]
             bound |= {item.id for item in names if isinstance(item.ctx, ast.Store)}
             for item in names:
                 self.check(item.id in bound | BUILT_IN, f"{name}:{item.lineno}", item.id)
+
+    def test_no_local_is_called_like_an_import_or_a_class(self):
+        for name, text in sources().items():
+            tree = ast.parse(text)
+            taken = {alias.name for item in tree.body if isinstance(item, ast.ImportFrom) for alias in item.names}
+            taken |= {item.name for item in tree.body if isinstance(item, ast.ClassDef)}
+            for item in ast.walk(tree):
+                if isinstance(item, ast.arg):
+                    self.check(item.arg not in taken, f"{name}:{item.lineno}", item.arg)
+                if isinstance(item, ast.Name) and isinstance(item.ctx, ast.Store):
+                    self.check(item.id not in taken, f"{name}:{item.lineno}", item.id)
+
+    def test_ranges_and_their_like_are_not_kept(self):
+        at_once = ("range", "enumerate", "zip", "reversed")
+        for where, node in nodes((ast.Assign, ast.Return)):
+            if isinstance(node.value, ast.Call) and isinstance(node.value.func, ast.Name):
+                self.check(node.value.func.id not in at_once, where)
+
+    def test_keywords(self):
+        for where, node in nodes(ast.Call):
+            for keyword in node.keywords:
+                allowed = {"sorted": ("key", "reverse"), "min": ("key", "default"), "max": ("key", "default")}
+                self.check(keyword.arg in allowed.get(getattr(node.func, "id", None), ()), where, keyword.arg)
+
+    def test_no_power_of_two_is_raised(self):
+        for where, node in nodes(ast.BinOp):
+            self.check(not isinstance(node.op, ast.Pow), where)
 
     def test_methods(self):
         own = {node.name for _, node in nodes(ast.FunctionDef)}

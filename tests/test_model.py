@@ -4,9 +4,7 @@ import itertools
 import random
 import unittest
 
-from tests.calling import HIGHEST, NUMBERS, ask
-
-NO_PARAMETER = ("list_roads", "reachable_places", "unreachable_places", "travel_times", "greatest_travel_time")
+from tests.calling import HIGHEST, NO_PARAMETER, NUMBERS, ask, last
 
 
 class Model:
@@ -44,24 +42,57 @@ class Model:
     def time(self, place):
         return min((time for _, _, time in self.routes(place)), default=None)
 
-    def joined(self, place, without=()):
-        """Whether the place is reachable without some roads, by merging groups of places."""
+    def reached(self, without=(), repaired=()):
+        """The places reachable without some roads and with others, by merging groups of places."""
         groups = [{number} for number in range(self.size)]
         for number, (end_a, end_b, _, _, blocked) in enumerate(self.roads):
-            if not blocked and number not in without:
+            if (not blocked and number not in without) or number in repaired:
                 both = [group for group in groups if end_a in group or end_b in group]
                 groups = [group for group in groups if group not in both] + [set().union(*both)]
-        return any(place in group and group & self.stores for group in groups)
+        return sorted(place for group in groups if group & self.stores for place in group)
 
-    def reached(self):
-        return [place for place in range(self.size) if self.joined(place)]
+    def numbers(self, blocked):
+        return [number for number, road in enumerate(self.roads) if road[4] == blocked]
 
-    def smallest_cut(self, place):
-        usable = [number for number, road in enumerate(self.roads) if not road[4]]
+    def least_cut(self, place):
+        """The roads of the minimum cut: of the sets that have the fewest roads the smallest one."""
+        usable = self.numbers(0)
         for count in range(len(usable) + 1):
-            for cut in itertools.combinations(usable, count):
-                if not self.joined(place, cut):
-                    return count
+            cuts = [cut for cut in itertools.combinations(usable, count) if place not in self.reached(cut)]
+            if cuts:
+                return list(min(cuts, key=set_number))
+
+    def cut_size(self, place):
+        return len(self.least_cut(place))
+
+    def plans(self):
+        """The repair plans, the cheapest first, each with its cost."""
+        found = []
+        for plan in subsets(self.numbers(1)):
+            if len(self.reached((), plan)) == self.size:
+                found.append((sum(self.roads[number][3] for number in plan), len(plan), set_number(plan), plan))
+        return sorted(found)
+
+    def with_change(self, blocked=(), repaired=(), stores=()):
+        """Another model, with some roads blocked, others repaired and more stores."""
+        other = Model()
+        other.size, other.roads = self.size, [list(road) for road in self.roads]
+        other.stores = self.stores | set(stores)
+        for number in blocked:
+            other.roads[number][4] = 1
+        for number in repaired:
+            other.roads[number][4] = 0
+        return other
+
+    def greatest(self):
+        times = [self.time(place) for place in range(self.size)]
+        return None if None in times else max(times)
+
+    def lost(self, road):
+        return len(set(self.reached()) - set(self.reached((road,))))
+
+    def gained(self, road):
+        return len(set(self.reached((), (road,))) - set(self.reached()))
 
     def most_routes(self, place):
         masks = sorted({sum(1 << road for road in roads) for _, roads, _ in self.routes(place)})
@@ -96,9 +127,9 @@ class Model:
             return [-2]
         if self.roads[road][4]:
             return [-17]
-        before = self.reached()
+        lost = self.lost(road)
         self.roads[road][4] = 1
-        return [len(set(before) - set(self.reached()))]
+        return [lost]
 
     def repair_road(self, road):
         if road >= len(self.roads):
@@ -138,8 +169,7 @@ class Model:
         return [-33 if time is None else time]
 
     def greatest_travel_time(self):
-        times = [self.time(place) for place in range(self.size)]
-        return [-33 if None in times else max(times)]
+        return [-33 if self.greatest() is None else self.greatest()]
 
     def fastest_route(self, place):
         if place >= self.size:
@@ -159,22 +189,106 @@ class Model:
             return [-33]
         return [self.most_routes(place)]
 
+    def minimum_cut(self, place):
+        if place >= self.size:
+            return [-2]
+        if place in self.stores:
+            return [-33]
+        return [self.cut_size(place), *self.least_cut(place)]
+
+    def weakest_place(self):
+        sizes = [(self.cut_size(place), place) for place in range(self.size) if place not in self.stores]
+        return [min(sizes)[1], min(sizes)[0]] if sizes else [-33]
+
+    def critical_roads(self):
+        critical = [road for road in self.numbers(0) if self.lost(road)]
+        return [len(critical), *critical]
+
+    def preview_block(self, road):
+        if road >= len(self.roads):
+            return [-2]
+        if self.roads[road][4]:
+            return [-17]
+        greatest = self.with_change(blocked=[road]).greatest()
+        return [self.lost(road), -1 if greatest is None else greatest]
+
+    def reachable_after_blocking(self, road_set):
+        if road_set >= 2 ** len(self.roads):
+            return [-22]
+        left = self.reached([road for road in range(9) if road_set & 2 ** road])
+        return [len(left), *left]
+
+    def most_critical_road(self):
+        losses = [(-self.lost(road), road) for road in self.numbers(0)]
+        return [min(losses)[1], -min(losses)[0]] if losses else [-33]
+
+    def cheapest_repair_plan(self):
+        return [self.plans()[0][0], *self.plans()[0][3]] if self.plans() else [-33]
+
+    def carry_out_repairs(self):
+        plan = self.cheapest_repair_plan()
+        for road in plan[1:]:
+            self.roads[road][4] = 0
+        return plan[:1]
+
+    def preview_repair(self, road):
+        if road >= len(self.roads):
+            return [-2]
+        if not self.roads[road][4]:
+            return [-17]
+        greatest = self.with_change(repaired=[road]).greatest()
+        return [self.gained(road), -1 if greatest is None else greatest]
+
+    def best_repair(self):
+        gains = [(-self.gained(road), road) for road in self.numbers(1)]
+        return [min(gains)[1], -min(gains)[0]] if gains else [-33]
+
+    def best_additional_store(self):
+        times = [(self.with_change(stores=[place]).greatest(), place) for place in range(self.size)]
+        times = [time for time in times if time[0] is not None]
+        return [min(times)[1], min(times)[0]] if times else [-33]
+
+    def surviving_places(self, k):
+        """By the other words of the term: reachable whichever k or fewer roads are blocked."""
+        usable = self.numbers(0)
+        lost = set()
+        for count in range(min(k, len(usable)) + 1):
+            for roads in itertools.combinations(usable, count):
+                lost |= set(range(self.size)) - set(self.reached(roads))
+        return [self.size - len(lost), *sorted(set(range(self.size)) - lost)]
+
+    def summary(self):
+        return [self.size, len(self.roads), len(self.numbers(0)), set_number(self.stores)]
+
+
+def set_number(members):
+    return sum(2 ** member for member in members)
+
+
+def subsets(numbers):
+    """Each set of the numbers, as a tuple of its members."""
+    return [chosen for count in range(len(numbers) + 1) for chosen in itertools.combinations(numbers, count)]
+
 
 def any_number(chance, most):
     return chance.choice((most + 1, HIGHEST)) if chance.random() < 0.04 else chance.randint(0, most)
 
 
 def any_call(chance, size):
-    name = chance.choice(sorted(NUMBERS) + ["add_road"] * 9 + ["set_store", "block_road"])
+    name = chance.choice(sorted(NUMBERS) + ["add_road"] * 12 + ["set_store", "block_road", "block_road"])
     if name == "create":
         return (name, chance.choice((0, 1, 2, 8, HIGHEST, 3, 4, 5, 6, 7)))
     if name == "add_road":
         return (name, any_number(chance, size - 1), any_number(chance, size - 1),
-                any_number(chance, chance.choice((3, 20))), any_number(chance, 50))
+                any_number(chance, chance.choice((3, 20))), any_number(chance, chance.choice((3, 50))))
     if name == "set_store":
         return (name, any_number(chance, size - 1), any_number(chance, 1))
-    if name in ("remove_road", "block_road", "repair_road"):
+    if name in ("remove_road", "block_road", "repair_road", "preview_block", "preview_repair"):
         return (name, any_number(chance, 8))
+    if name == "reachable_after_blocking":
+        return (name, any_number(chance, 2 ** chance.randint(0, 9) - 1))
+    if name == "surviving_places":
+        return (name, any_number(chance, 3))
     return (name,) if name in NO_PARAMETER else (name, any_number(chance, size - 1))
 
 
@@ -185,9 +299,12 @@ def any_town(chance):
     for place in range(size):
         if chance.random() < 0.3:
             calls.append(("set_store", place, 1))
+    most_time, most_cost = chance.choice((2, 20)), chance.choice((1, 2, 50))
+    blocked = chance.choice((0.1, 0.1, 0.4, 0.7))
     for number in range(chance.choice((5, 7, 8, 9, 9))):
-        calls.append(("add_road", *chance.sample(range(size), 2), chance.randint(1, chance.choice((2, 20))), 1))
-        if chance.random() < 0.1:
+        ends = chance.sample(range(size), 2)
+        calls.append(("add_road", *ends, chance.randint(1, most_time), chance.randint(1, most_cost)))
+        if chance.random() < blocked:
             calls.append(("block_road", number))
     model = Model()
     for call in calls:
@@ -196,9 +313,13 @@ def any_town(chance):
 
 
 class Definitions(unittest.TestCase):
+    def compare(self, calls, model, asked):
+        other = model.with_change()
+        self.assertEqual(ask(*calls, *asked)[len(calls):], [other.answer(*call) for call in asked])
+
     def test_any_calls(self):
         chance = random.Random(1)
-        for number in range(400):
+        for number in range(500):
             size = chance.randint(1, 7)
             calls = [("create", size)] if chance.random() < 0.9 else []
             while len(calls) < 40:
@@ -212,33 +333,100 @@ class Definitions(unittest.TestCase):
 
     def test_whole_towns(self):
         chance = random.Random(2)
-        for number in range(300):
+        for number in range(200):
             calls, model = any_town(chance)
+            with self.subTest(number=number):
+                self.compare(calls, model, [(name,) for name in NO_PARAMETER])
+                self.compare(calls, model, [("surviving_places", k) for k in (0, 1, 2, 3, 9, HIGHEST)])
+                self.compare(calls, model, [("reachable_after_blocking", chance.randint(0, 511)) for _ in range(9)])
             for place in range(model.size):
-                asked = [(name,) for name in NO_PARAMETER]
-                asked += [("travel_time", place), ("fastest_route", place), ("disjoint_route_count", place)]
+                names = ("travel_time", "fastest_route", "disjoint_route_count", "minimum_cut")
                 with self.subTest(number=number, place=place):
-                    self.assertEqual(ask(*calls, *asked)[len(calls):], [model.answer(*call) for call in asked])
+                    self.compare(calls, model, [(name, place) for name in names])
+            for road in range(len(model.roads)):
+                with self.subTest(number=number, road=road):
+                    self.compare(calls, model, [("preview_block", road), ("preview_repair", road)])
 
-    def test_as_many_routes_as_the_smallest_cut_has_roads(self):
+
+class Requirements(unittest.TestCase):
+    """The document's requirements, each by what it says of the definitions."""
+
+    def test_as_many_routes_as_the_minimum_cut_has_roads(self):
         chance = random.Random(3)
         for number in range(200):
             calls, model = any_town(chance)
             for place in sorted(set(range(model.size)) - model.stores):
                 with self.subTest(number=number, place=place):
-                    given = ask(*calls, ("disjoint_route_count", place))[-1]
-                    self.assertEqual(given, [model.smallest_cut(place)])
-                    self.assertEqual(given, [model.most_routes(place)])
+                    count, cut = ask(*calls, ("disjoint_route_count", place), ("minimum_cut", place))[-2:]
+                    self.assertEqual(count, [model.most_routes(place)])
+                    self.assertEqual(cut[:1], count)
+                    self.assertEqual(len(cut), 1 + cut[0])
+
+    def test_the_minimum_cut_is_a_cut_and_no_cut_has_fewer_roads(self):
+        chance = random.Random(5)
+        for number in range(100):
+            calls, model = any_town(chance)
+            for place in sorted(set(range(model.size)) - model.stores):
+                with self.subTest(number=number, place=place):
+                    cut = last(*calls, ("minimum_cut", place))[1:]
+                    self.assertNotIn(place, model.reached(cut))
+                    for fewer in subsets(model.numbers(0)):
+                        if len(fewer) < len(cut):
+                            self.assertIn(place, model.reached(fewer))
 
     def test_no_route_is_faster_and_some_route_is_as_fast(self):
         chance = random.Random(4)
         for number in range(200):
             calls, model = any_town(chance)
-            times = ask(*calls, ("travel_times",))[-1][1:]
+            times = last(*calls, ("travel_times",))[1:]
             for place in range(model.size):
                 lengths = [time for _, _, time in model.routes(place)]
                 with self.subTest(number=number, place=place):
                     self.assertEqual(times[place], min(lengths, default=-1))
+
+    def test_the_cheapest_plan_makes_all_reachable_and_no_plan_costs_less(self):
+        chance = random.Random(6)
+        for number in range(150):
+            calls, model = any_town(chance)
+            with self.subTest(number=number):
+                plan = last(*calls, ("cheapest_repair_plan",))
+                costs = [cost for cost, _, _, _ in model.plans()]
+                self.assertEqual(plan[0], min(costs, default=-33))
+                if costs:
+                    self.assertEqual(len(model.reached((), plan[1:])), model.size)
+                    repaired = ask(*calls, ("carry_out_repairs",), ("unreachable_places",))[-2:]
+                    self.assertEqual(repaired, [plan[:1], [0]])
+
+    def test_plans_that_cost_the_least_have_equally_many_roads(self):
+        """So the tie that goes to fewer roads has none to choose from: each of these plans joins what is apart."""
+        chance = random.Random(9)
+        for number in range(150):
+            plans = any_town(chance)[1].plans()
+            with self.subTest(number=number):
+                self.assertLessEqual(len({count for cost, count, _, _ in plans if cost == plans[0][0]}), 1)
+
+    def test_what_survives_stays_and_what_does_not_can_be_cut_off(self):
+        chance = random.Random(7)
+        for number in range(60):
+            calls, model = any_town(chance)
+            for k in (0, 1, 2, 3):
+                survives = last(*calls, ("surviving_places", k))[1:]
+                fails = [roads for roads in subsets(list(range(len(model.roads)))) if len(roads) <= k]
+                with self.subTest(number=number, k=k):
+                    for place in range(model.size):
+                        stays = all(place in model.reached(roads) for roads in fails)
+                        self.assertEqual(place in survives, stays)
+
+    def test_errors_leave_the_instance_unchanged(self):
+        chance = random.Random(8)
+        seen = [("list_roads",), ("travel_times",), ("summary",)]
+        for number in range(300):
+            calls, model = any_town(chance)
+            wrong = any_call(chance, model.size)
+            given = ask(*calls, *seen, wrong, *seen)
+            if given[-4][0] < 0:
+                with self.subTest(number=number, wrong=wrong):
+                    self.assertEqual(given[-3:], given[-7:-4])
 
 
 if __name__ == "__main__":
